@@ -1,0 +1,1 @@
+"""Lotledger: books of lots."""
