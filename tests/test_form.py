@@ -28,6 +28,8 @@ NEVER_WORDS = set(
 )
 NEVER_WITHIN_WORDS = ("dataclass", "overload", "contextmanager")
 NEVER_NAMES = set("register mro elements open input version_info with_traceback add_note format format_map".split())
+WALKED_AT_ONCE = set("zip enumerate reversed range items keys values".split())
+WALKERS = set("list tuple dict sorted sum any all enumerate zip min max join".split())
 ALLOWED_NODES = (
     ast.Module, ast.ImportFrom, ast.alias, ast.FunctionDef, ast.ClassDef, ast.arguments, ast.arg, ast.Lambda,
     ast.Assign, ast.AugAssign, ast.If, ast.While, ast.For, ast.Return, ast.Break, ast.Continue, ast.Pass, ast.Raise,
@@ -68,6 +70,54 @@ def methods():
 
 def fields():
     return {node.attr for _, node in nodes(ast.Attribute) if isinstance(node.ctx, ast.Store)}
+
+
+def names_at_the_top(tree):
+    return {node.name for node in tree.body if isinstance(node, (ast.FunctionDef, ast.ClassDef))}
+
+
+def imported_names(tree):
+    return {name.name for node in tree.body if isinstance(node, ast.ImportFrom) for name in node.names}
+
+
+def drawn_from(tree):
+    return {node.module.rpartition(".")[2] for node in tree.body if isinstance(node, ast.ImportFrom)}
+
+
+def names_given(tree):
+    """The parameters and the locals of a file's functions."""
+    for function in ast.walk(tree):
+        if isinstance(function, (ast.FunctionDef, ast.Lambda)):
+            for node in ast.walk(function):
+                if isinstance(node, ast.arg):
+                    yield node.arg
+                if isinstance(node, ast.Name) and isinstance(node.ctx, ast.Store):
+                    yield node.id
+
+
+def places_of_classes(node):
+    if isinstance(node, ast.Call):
+        yield node.func
+        # Base.__init__(self, ..) calls a base's by its class.
+        if isinstance(node.func, ast.Attribute) and node.func.attr == "__init__":
+            yield node.func.value
+        if called_name(node) == "isinstance":
+            yield from node.args[1].elts if isinstance(node.args[1], ast.Tuple) else [node.args[1]]
+    if isinstance(node, ast.ClassDef):
+        yield from node.bases
+    if isinstance(node, ast.ExceptHandler):
+        yield from node.type.elts if isinstance(node.type, ast.Tuple) else [node.type]
+
+
+def places_of_walks(node):
+    if isinstance(node, (ast.For, ast.comprehension)):
+        yield node.iter
+    if isinstance(node, ast.Call) and called_name(node) in WALKERS:
+        yield from node.args[:1]
+
+
+def called_name(call):
+    return call.func.attr if isinstance(call.func, ast.Attribute) else getattr(call.func, "id", "")
 
 
 class Files(unittest.TestCase):
@@ -129,6 +179,24 @@ class Code(unittest.TestCase):
             self.assertRegex(node.module, r"\Alotledger\.\w+\Z", place)
             self.assertFalse([name for name in node.names if name.name == "*"], place)
 
+    def test_imports_are_from_the_file_that_defines_the_name(self):
+        defined = {f"lotledger.{path.stem}": names_at_the_top(tree) for path, tree in trees()}
+        for place, node in nodes(ast.ImportFrom):
+            self.assertLessEqual({name.name for name in node.names}, defined[node.module], place)
+            self.assertEqual([name.asname for name in node.names if name.asname], [], place)
+
+    def test_no_two_files_draw_from_one_another(self):
+        drawn = {path.stem: drawn_from(tree) for path, tree in trees()}
+        while drawn:
+            free = [name for name in drawn if not drawn[name] & set(drawn)]
+            self.assertTrue(free, drawn)
+            drawn = {name: drawn[name] for name in drawn if name not in free}
+
+    def test_every_import_is_used(self):
+        for path, tree in trees():
+            used = {node.id for node in ast.walk(tree) if isinstance(node, ast.Name)}
+            self.assertLessEqual(imported_names(tree), used, path)
+
     def test_functions(self):
         for place, node in nodes(ast.FunctionDef):
             self.assertLessEqual(node.end_lineno - node.lineno + 1, 40, place)
@@ -168,6 +236,25 @@ class Names(unittest.TestCase):
             name = node.arg if isinstance(node, ast.arg) else node.id
             if isinstance(node, ast.arg) or isinstance(node.ctx, ast.Store):
                 self.assertNotIn(name, PYTHONS_OWN, place)
+
+    def test_no_parameter_or_local_is_called_like_a_def_a_class_or_an_import_of_its_file(self):
+        for path, tree in trees():
+            self.assertEqual(set(names_given(tree)) & (names_at_the_top(tree) | imported_names(tree)), set(), path)
+
+    def test_classes_are_called_or_stand_where_classes_may(self):
+        classes = {kind.name for _, kind in nodes(ast.ClassDef)}
+        for path, tree in trees():
+            allowed = {id(name) for node in ast.walk(tree) for name in places_of_classes(node)}
+            for node in ast.walk(tree):
+                if isinstance(node, ast.Name) and node.id in classes:
+                    self.assertIn(id(node), allowed, f"{path.name}:{node.lineno}")
+
+    def test_values_walked_at_once(self):
+        for path, tree in trees():
+            allowed = {id(value) for node in ast.walk(tree) for value in places_of_walks(node)}
+            for node in ast.walk(tree):
+                if isinstance(node, ast.Call) and called_name(node) in WALKED_AT_ONCE:
+                    self.assertIn(id(node), allowed, f"{path.name}:{node.lineno}")
 
     def test_of_pythons_own_names_only_the_allowed_ones(self):
         for place, node in nodes(ast.Name):
