@@ -62,8 +62,13 @@ class Book:
             self.do_parting(entry)
 
     def do_buy(self, entry):
-        self.put(entry.ware, [Lot(entry.number, entry.day, entry.pieces, entry.cost)])
+        cost = entry.cost + self.lay_on(entry)
+        self.put(entry.ware, [Lot(entry.number, entry.day, entry.pieces, cost)])
         self.paid = self.paid + entry.cost
+
+    def lay_on(self, entry):
+        """The losses that a buy takes: none in a plain book."""
+        return 0
 
     def do_gift(self, entry):
         self.put(entry.ware, [Lot(entry.number, entry.since, entry.pieces, entry.cost)])
@@ -122,8 +127,7 @@ class Book:
         return {
             "paid": self.paid,
             "brought": self.brought,
-            # In a plain book nothing is laid.
-            "laid": 0,
+            "laid": sum([-sale.gain() for sale in self.sales_done if sale.laid_on is not None]),
             "sold": sum([cost_of_parts(sale.parts) for sale in self.sales_done]),
             "given": sum([cost_in(lots) for number, lots in self.givings_done]),
             "left": sum([cost_in(row) for row in self.rows.values()]),
@@ -148,7 +152,10 @@ def cost_of_parts(parts):
 
 def book_of(way, entries):
     """A book that has done the entries in order."""
-    book = Book(way)
+    return with_all_done(Book(way), entries)
+
+
+def with_all_done(book, entries):
     for entry in in_order(entries):
         book.do(entry)
     return book

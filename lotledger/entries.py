@@ -160,6 +160,22 @@ class Parting(Entry):
         return held_with_more(held, self.other, held.get(self.ware, 0))
 
 
+def entry_that_tells(told):
+    """The entry whose told() is this, which is of one of the six words and as long as that kind's."""
+    word = told[0]
+    if word == "buy":
+        return Buy(told[1], told[2], told[3], told[4], told[5], told[6])
+    if word == "sell":
+        return Sell(told[1], told[2], told[3], told[4], told[5], told[6], named_copy(told[7]))
+    if word == "gift":
+        return Gift(told[1], told[2], told[3], told[4], told[5], told[6])
+    if word == "give":
+        return Give(told[1], told[2], told[3], told[4], named_copy(told[5]))
+    if word == "split":
+        return Split(told[1], told[2], told[3], told[4], told[5])
+    return Parting(told[1], told[2], told[3], told[4], told[5], told[6])
+
+
 def is_whole_number(value):
     # Python counts True and False among the ints; here they are none.
     return isinstance(value, int) and not isinstance(value, bool)

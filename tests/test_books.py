@@ -9,27 +9,11 @@ from lotledger.entries import Buy, Gift, Give, Parting, Sell, Split
 from lotledger.errors import Late, NoLot, NotHeld, Twice
 from lotledger.held import held_after
 from lotledger.ways import Dearest, Eldest, Mean, Newest, way_by
-from rows import told
-
-WORDS = ("eldest", "newest", "dearest", "mean")
-SUMS = ["paid", "brought", "laid", "sold", "given", "left", "proceeds"]
-
-
-def told_sale(sale):
-    return (sale.number, sale.day, sale.ware, sale.proceeds, sale.parts, sale.laid_on, sale.gain(), sale.counted())
-
-
-def all_told(book):
-    """Whatever a book tells, of any ware that the tests speak of."""
-    rows = {ware: told(book.row_of(ware)) for ware in ("tin", "ore", "zinc")}
-    return (book.held(), rows, [told_sale(sale) for sale in book.sales()], book.given(), book.sums())
+from helper import SUMS, WORDS, all_told, told, told_sale, with_done
 
 
 def done(way, *entries):
-    book = Book(way)
-    for entry in entries:
-        book.do(entry)
-    return book
+    return with_done(Book(way), *entries)
 
 
 def history():
@@ -398,7 +382,7 @@ class WhatIsTold(unittest.TestCase):
             rows = [book.row_of(ware) for ware in ("tin", "ore", "zinc")]
             live = (book.held(), rows, book.sales(), book.given(), book.sums())
             kept.append((live, all_told(book)))
-        for (held, rows, sales, given, sums), (old_held, old_rows, old_sales, old_given, old_sums) in kept:
+        for (held, rows, sales, given, sums), (old_held, old_rows, old_sales, old_given, old_sums, _) in kept:
             self.assertEqual((held, given, sums), (old_held, old_given, old_sums))
             self.assertEqual([told(one) for one in rows], list(old_rows.values()))
             self.assertEqual([told_sale(sale) for sale in sales], old_sales)

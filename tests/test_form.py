@@ -30,6 +30,10 @@ NEVER_WITHIN_WORDS = ("dataclass", "overload", "contextmanager")
 NEVER_NAMES = set("register mro elements open input version_info with_traceback add_note format format_map".split())
 WALKED_AT_ONCE = set("zip enumerate reversed range items keys values".split())
 WALKERS = set("list tuple dict sorted sum any all enumerate zip min max join".split())
+KEYWORDS = {
+    "sorted": {"key", "reverse"}, "min": {"key", "default"}, "max": {"key", "default"}, "sum": {"start"},
+    "enumerate": {"start"}, "zip": {"strict"},
+}
 ALLOWED_NODES = (
     ast.Module, ast.ImportFrom, ast.alias, ast.FunctionDef, ast.ClassDef, ast.arguments, ast.arg, ast.Lambda,
     ast.Assign, ast.AugAssign, ast.If, ast.While, ast.For, ast.Return, ast.Break, ast.Continue, ast.Pass, ast.Raise,
@@ -114,6 +118,25 @@ def places_of_walks(node):
         yield node.iter
     if isinstance(node, ast.Call) and called_name(node) in WALKERS:
         yield from node.args[:1]
+
+
+def kept_at_the_top(tree):
+    """The lists and dicts of a file's top."""
+    kept = [node for node in tree.body if isinstance(node, ast.Assign) and isinstance(node.value, (ast.List, ast.Dict))]
+    return {node.targets[0].id for node in kept}
+
+
+def places_of_reading(node):
+    if isinstance(node, ast.Subscript) and isinstance(node.ctx, ast.Load):
+        yield node.value
+    if isinstance(node, ast.Compare):
+        yield from node.comparators
+    if isinstance(node, (ast.For, ast.comprehension)):
+        yield node.iter
+    if isinstance(node, ast.Call) and called_name(node) in ("len", "list", "dict", "sorted"):
+        yield from node.args[:1]
+    if isinstance(node, ast.Call) and called_name(node) == "get":
+        yield node.func.value
 
 
 def called_name(call):
@@ -255,6 +278,29 @@ class Names(unittest.TestCase):
             for node in ast.walk(tree):
                 if isinstance(node, ast.Call) and called_name(node) in WALKED_AT_ONCE:
                     self.assertIn(id(node), allowed, f"{path.name}:{node.lineno}")
+
+    def test_lists_and_dicts_of_a_files_top_are_only_read(self):
+        for path, tree in trees():
+            kept = kept_at_the_top(tree)
+            allowed = {id(value) for node in ast.walk(tree) for value in places_of_reading(node)}
+            for node in ast.walk(tree):
+                if isinstance(node, ast.Name) and node.id in kept and isinstance(node.ctx, ast.Load):
+                    self.assertIn(id(node), allowed, f"{path.name}:{node.lineno}")
+
+    def test_errors_are_made_on_the_spot_and_taken_by_their_own_names(self):
+        errors = names_at_the_top(ast.parse((PACKAGE / "errors.py").read_text(encoding="utf-8")))
+        for place, node in nodes((ast.Raise, ast.ExceptHandler)):
+            if isinstance(node, ast.Raise):
+                self.assertIsInstance(node.exc, ast.Call, place)
+                self.assertIn(called_name(node.exc), errors, place)
+            else:
+                self.assertIsInstance(node.type, ast.Name, place)
+                self.assertIn(node.type.id, errors, place)
+
+    def test_keywords(self):
+        for place, node in nodes(ast.Call):
+            told = {keyword.arg for keyword in node.keywords}
+            self.assertLessEqual(told, KEYWORDS.get(called_name(node), set()), place)
 
     def test_of_pythons_own_names_only_the_allowed_ones(self):
         for place, node in nodes(ast.Name):

@@ -8,7 +8,7 @@ import unittest
 from lotledger import lots as module
 from lotledger.errors import LotError, NoLot
 from lotledger.lots import Lot, cost_in, pieces_in, row_with, row_without
-from rows import row, told
+from helper import row, told
 
 
 class Interface(unittest.TestCase):

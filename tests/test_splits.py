@@ -8,7 +8,7 @@ import unittest
 from lotledger.errors import NoPieces
 from lotledger.lots import cost_in, pieces_in
 from lotledger.splits import row_parted, row_split
-from rows import row, told
+from helper import row, told
 
 
 def some_rows():

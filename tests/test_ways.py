@@ -9,7 +9,7 @@ import unittest
 from lotledger.errors import NoLot, NoWay
 from lotledger.lots import cost_in, pieces_in
 from lotledger.ways import Dearest, Eldest, Mean, Newest, Way, gone_from, way_by
-from rows import row, told
+from helper import row, told
 
 # Costs for each piece: 5, 7, 5, 9 and 3 for each two.
 TUPLES = [(8, 2, 4, 20), (5, 4, 2, 14), (9, 4, 3, 15), (0, 6, 1, 9), (2, 7, 2, 3)]
